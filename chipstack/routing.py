@@ -68,7 +68,7 @@ class Router:
         self.routes.sources[wire] = self.reached.get(tile, ("tile",))
         self.routes.tracks = max(self.routes.tracks, track + 1)
         self.crowds[(x, y, wall)] = track + 1
-        self.reached[beside(tile, wall)] = ("wire", opposite_wall(wall), track)
+        self.reached[beside(tile, wall)] = ("wire", facing(wall), track)
 
     def is_inside(self, tile):
         """Return True for a tile of the square."""
@@ -81,7 +81,7 @@ class Router:
         if source[0] == "in":
             wall = self.layout.pads[source][0]
             # What comes in comes on track 0, by the wall that its pad stands at.
-            self.reached = {beside(start, opposite_wall(wall)): ("wire", wall, 0)}
+            self.reached = {beside(start, facing(wall)): ("wire", wall, 0)}
         for _, sink in sorted([(far(start, self.layout.spot(sink)), sink) for sink in sinks]):
             self.lay_to(source, sink)
 
@@ -92,7 +92,7 @@ class Router:
             self.reach(source, spot)
             return
         wall = self.layout.pads[sink][0]
-        tile = beside(spot, opposite_wall(wall))
+        tile = beside(spot, facing(wall))
         self.reach(source, tile)
         self.add_wire(source, tile, wall)
 
@@ -148,7 +148,7 @@ def beside(tile, wall):
     return (tile[0] + across, tile[1] + down)
 
 
-def opposite_wall(wall):
+def facing(wall):
     """Return the wall by which a wire comes in that leaves a tile by another one."""
     return (wall + 2) % 4
 

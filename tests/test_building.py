@@ -6,7 +6,7 @@ import unittest
 from chipstack.building import Builder, build
 from chipstack.errors import GateError, PlanError
 from chipstack.gates import Run, check_netlist
-from chipstack.plans import parse_plans
+from chipstack.plans import Plan, parse_plans
 from tests.reckon import Reckoning, drawn_plans
 
 SIGNS = ("|", "^", "&", "+", "-", "==", "!=", "<")
@@ -194,6 +194,10 @@ class BuildTest(unittest.TestCase):
         for plans in ({}, parse_plans(COUNTER)):
             with self.assertRaises(PlanError):
                 build(plans, "nothing")
+
+    def test_a_part_of_an_unknown_plan(self):
+        with self.assertRaises(PlanError):
+            build({"a": Plan("a", [("use", "p", "nothing", ())])}, "a")
 
     def test_how_many_parts(self):
         texts = ["plan leaf\nout x 1\nx = 1:1\nend"]

@@ -150,6 +150,13 @@ class RunTest(unittest.TestCase):
             count = (count + go) % 4
             self.assertEqual(run.state, {1: count & 1, 2: count >> 1})
 
+    def test_kept(self):
+        gates = [("keep", "k", 2, 1), ("keep", "m.n", 0, 1), ("keep", "k", 0, 0), ("keep", "k", 1, 1)]
+        run = Run(netlist_of(gates, {}, {0: 0, 1: 2, 2: 2, 3: 0}))
+        self.assertEqual(run.kept(), {"k": 6, "m.n": 1})
+        run.step({})
+        self.assertEqual(run.kept(), {"k": 6, "m.n": 0})
+
     def test_given_keeps_nothing(self):
         run = Run(counter())
         run.given({"go": 1})

@@ -47,6 +47,7 @@ class FilesTest(unittest.TestCase):
             text = path.read_text()
             self.assertLess(len(text.split("\n")), 401, path)
             self.assertEqual(re.findall(r"[^ -~\n]", text), [], path)
+            self.assertEqual(re.findall("_wall|_WallAttr|dataclass|overload|contextmanager", text), [], path)
             for number, line in enumerate(text.split("\n"), 1):
                 self.assertLessEqual(len(line), 120, (path, number))
 

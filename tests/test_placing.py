@@ -41,6 +41,7 @@ class LayoutTest(unittest.TestCase):
         self.assertEqual(net_length(layout, ("cell", 0), [("cell", 1)]), 4)
         self.assertEqual(net_length(layout, ("cell", 0), [("cell", 0)]), 0)
         self.assertEqual(net_length(layout, ("cell", 0), [("cell", 2), ("cell", 1), ("cell", 2)]), 5)
+        self.assertEqual(net_length(layout, ("cell", 1), [("cell", 2)]), 3)
         self.assertEqual(net_length(layout, A0, [("cell", 0)]), 4)
         self.assertEqual(net_length(layout, ("cell", 2), [("out", "y", 0), ("cell", 0)]), 6)
         nets = {A0: [("cell", 0)], ("cell", 0): [("cell", 1)]}
@@ -124,6 +125,13 @@ class PlacingTest(unittest.TestCase):
                 moved += tiles != placer.layout.tiles
                 check_layout(cells, placer.layout)
             self.assertGreater(moved, 50)
+
+    def test_changes_of_no_length(self):
+        cells = plain_cells(5, 0, 0)
+        placer = Placer(cells, 1)
+        self.assertEqual([placer.try_swap(0) for _ in range(50)], [0] * 50)
+        self.assertNotEqual(placer.layout.tiles, first_layout(cells).tiles)
+        self.assertEqual([Placer(plain_cells(many, 0, 0), 1).try_swap(3) for many in (0, 1)], [0, 0])
 
     def test_nothing_that_is_worse(self):
         cells = drawn_cells(7, 30, 5, 5)

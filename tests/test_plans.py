@@ -241,7 +241,8 @@ class PlansTest(unittest.TestCase):
         for line in ("in", "in x", "in x y", "out 4 x", "keep x 4", "keep x 4 0", "keep x 4 = a", "keep x 4 = 3:4",
                      "keep x = 4", "let x", "let x a", "let = a", "let p.x = a", "use p", "use p of", "use of counter",
                      "use p counter (go = t)", "use p of counter", "use p of counter (go)", "use p of counter go = t",
-                     "x", "x a", "5 = a", "(a)", "if a then b else c", "in x 08", "= a", "a"):
+                     "x", "x a", "5 = a", "(a)", "if a then b else c", "in x 08", "= a", "a", "all x 4", "wide x 4", "of x 4", "( x 4", "5 x 4",
+                     "then x = a", "plan x 4", "<- a"):
             self.fails(line)
 
     def test_lines_that_stand_in_any_order(self):

@@ -162,7 +162,7 @@ class ReaderTest(unittest.TestCase):
                      "5", "5:", "5:a", "a.", "a.5", ".a", "a.b.c", "a <<", "a << b", "a << (1)", "a + if b then c else d",
                      "if a then b", "if a else b", "if a b else c", "all a", "all()", "all(a, b)", "any(", "wide(a)",
                      "wide(a, b)", "wide(a 3)", "then", "plan", "~", "~if a then b else c", "a = b", "a <- b",
-                     "a << ~2", "a.in"):
+                     "a << ~2", "a.in", "then(a)", "plan(a)", "in(a)", "end", "+(a)", "~(", ",(a)"):
             with self.assertRaises(PlanError):
                 reader = PlanReader(marks_of(text))
                 reader.expression()
@@ -173,15 +173,20 @@ class ReaderTest(unittest.TestCase):
     def test_as_deep_as_may_be(self):
         for text in ("(" * 29 + "a" + ")" * 29, "~" * 29 + "a", "{" * 29 + "a" + "}" * 29,
                      "all(" * 29 + "a" + ")" * 29, "a + " + "(" * 29 + "a" + ")" * 29 + " + b",
-                     "if a then b else " * 20 + "(" * 9 + "a" + ")" * 9, "(~" * 14 + "(a[1])[2]" + ")" * 14):
+                     "if a then b else " * 15 + "(" * 14 + "a" + ")" * 14, "(~" * 14 + "(a[1])[2]" + ")" * 14):
             read(text)
 
     def test_one_deeper(self):
         for text in ("(" * 30 + "a" + ")" * 30, "~" * 30 + "a", "{" * 30 + "a" + "}" * 30,
-                     "if a then b else " * 20 + "(" * 10 + "a" + ")" * 10, "~" * 28 + "(~a)"):
+                     "if a then b else " * 15 + "(" * 15 + "a" + ")" * 15, "~" * 28 + "(~a)",
+                     "a + b + c + ~d + " + "(" * 30 + "a" + ")" * 30, "(if a then b else c) + " + "~" * 30 + "d"):
             with self.assertRaises(PlanError):
                 read(text)
         self.assertEqual(read("~" * 28 + "(a)"), read("~" * 28 + "a"))
+
+    def test_what_was_deep_ahead_does_not_count(self):
+        for text in ("(if a then b else c) + " + "~" * 29 + "d", "~" * 29 + "a + " + "(" * 29 + "b" + ")" * 29):
+            read(text)
 
     def test_operations_and_slices_are_not_deeper(self):
         self.assertEqual(read("a" + " + a" * 58)[0], "op")
@@ -234,7 +239,7 @@ class TextTest(unittest.TestCase):
                      "(if a then b else c) + d", "a + (if a then b else c)", "~(if a then b else c)",
                      "(if a then b else c) << 1", "(if a then b else c)[0]", "{a, b + c, if a then b else c}",
                      "all(a + b)", "any(if a then b else c)", "wide(a | b, 9)", "all(a)[0]", "wide(a, 9)[3:2]",
-                     "{a, b}[2]", "5:8[1]", "a ^ b & c", "(a ^ b) & c"):
+                     "{a, b}[2]", "5:8[1]", "a ^ b & c", "(a ^ b) & c", "a + b == c - d", "a == (b & c)"):
             self.assertEqual(expression_text(read(text)), text)
 
     def test_brackets_that_are_not_needed_go(self):

@@ -162,6 +162,9 @@ class RoutedTest(unittest.TestCase):
     def test_many_tracks(self):
         cells, layout = self.corner(8)
         self.assertGreaterEqual(self.hold_to_point_9(cells, layout).tracks, 16)
+        # Wires that find a wall full go another way.
+        cells, layout = self.corner(11)
+        self.assertEqual(self.hold_to_point_9(cells, layout).tracks, 24)
 
     def test_more_tracks_than_may_be(self):
         # Into a corner of 13 by 13 tiles lead 26 walls with 24 tracks each: less than its 4 * 13 * 13 inputs.

@@ -1,5 +1,6 @@
 """Point 7: cells of up to four inputs, and runs of them."""
 
+import itertools
 import random
 import unittest
 
@@ -22,6 +23,24 @@ def read_numbers(cells):
             found.add(number)
         found.update(row[1] for row in cell.inputs if row[0] == "cell")
     return found
+
+
+def best_cuts(netlist):
+    """Return what the best cut of each gate is ranked by: six cuts, and itself, are all that its readers see of it."""
+    best, seen = [], []
+    for place, gate in enumerate(netlist.gates):
+        reads = netlist.inputs_of(place)
+        if not reads:
+            places = (place,) if gate[0] in ("in", "keep") else ()
+            best.append((0, len(places), places))
+            seen.append([places])
+            continue
+        unions = {tuple(sorted(set().union(*rows))) for rows in itertools.product(*[seen[one] for one in reads])}
+        ranks = sorted((max([best[one][0] + 1 for one in places], default=0), len(places), places)
+                       for places in unions if len(places) <= 4)
+        best.append(ranks[0])
+        seen.append([rank[2] for rank in ranks[:6]] + [(place,)])
+    return best
 
 
 class CellsTest(unittest.TestCase):
@@ -187,6 +206,14 @@ class MapperTest(unittest.TestCase):
                     self.assertLessEqual(len(cut.places), 4)
                     if cut.places:
                         self.assertEqual(cut.depth, 1 + max(mapper.best[one].depth for one in cut.places))
+
+    def test_the_best_of_up_to_six(self):
+        for seed in range(30):
+            netlist = drawn_netlist(seed, 60)
+            mapper = Mapper(netlist)
+            mapper.find_cuts()
+            told = best_cuts(netlist)
+            self.assertEqual([(cut.depth, len(cut.places), cut.places) for cut in mapper.best], told)
 
     def test_table_of(self):
         mapper = Mapper(netlist_of([A, B, C, ("one",), ("pick", 0, 1, 2), ("and", 4, 3), ("not", 5)]))
