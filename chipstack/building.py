@@ -25,7 +25,7 @@ class Builder:
         many = len(self.netlist.gates)
         try:
             return self.tree(tree, table)
-        except GateError:
+        except (GateError, PlanError):
             # What raises changes nothing: gates of the part that did fit go again.
             del self.netlist.gates[many:]
             raise
@@ -43,7 +43,7 @@ class Builder:
         if word == "number":
             return [self.one if tree[1] >> bit & 1 else self.zero for bit in range(tree[2])]
         if word == "name":
-            return list(table[tree[1]])
+            return self.named(tree[1], table)
         if word == "op":
             return self.operation(tree[1], self.tree(tree[2], table), self.tree(tree[3], table))
         if word == "if":
@@ -62,6 +62,12 @@ class Builder:
         if word == "wide":
             return rows + [self.zero] * (tree[2] - len(rows))
         return [self.put_together("and" if word == "all" else "or", rows)]
+
+    def named(self, name, table):
+        """Return the places of a name's bits; raise PlanError for an unknown one."""
+        if name not in table:
+            raise PlanError(f"{name} is not known here")
+        return list(table[name])
 
     def choice(self, tree, table):
         """Return the places of an if's bits."""

@@ -1,5 +1,6 @@
 """Tables: gates put together into cells of up to four inputs, each told by what it gives for all of their bits."""
 
+from chipstack.errors import GateError
 from chipstack.gates import READING
 
 MOST_INPUTS = 4
@@ -205,6 +206,15 @@ def cells_of(netlist):
     return Cells(mapper.cells, outs, pins)
 
 
+def input_bit(row, ins, bits):
+    """Return the bit of an input, by what comes in and the bits of cells; raise GateError if it does not come in."""
+    if row[0] == "cell":
+        return bits[row[1]]
+    if row[1] not in ins:
+        raise GateError(f"{row[1]} does not come in")
+    return ins[row[1]] >> row[2] & 1
+
+
 class CellRun:
     """Cells, their order, and the bit that each one keeps now."""
 
@@ -229,8 +239,7 @@ class CellRun:
         cell = self.cells.cells[number]
         place = 0
         for at, row in enumerate(cell.inputs):
-            bit = bits[row[1]] if row[0] == "cell" else ins[row[1]] >> row[2] & 1
-            place |= bit << at
+            place |= input_bit(row, ins, bits) << at
         return cell.table >> place & 1
 
     def given(self, ins):

@@ -140,6 +140,8 @@ class BuilderTest(unittest.TestCase):
         for _ in range(3):
             with self.assertRaises(GateError):
                 builder.expression(("not", ("name", "x")), three)
+        with self.assertRaises(PlanError):
+            builder.expression(("op", "&", ("not", ("name", "y")), ("name", "z")), {"y": [0]})
         self.assertEqual(builder.gate("not", 0), 19999)
         with self.assertRaises(GateError):
             builder.gate("not", 0)

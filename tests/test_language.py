@@ -191,7 +191,8 @@ class WordsTest(unittest.TestCase):
         for path, tree in trees():
             for node in ast.walk(tree):
                 if isinstance(node, ast.ExceptHandler):
-                    self.assertIn(node.type.id, ("PlanError", "GateError", "PlaceError", "KeyError"), path)
+                    for one in node.type.elts if isinstance(node.type, ast.Tuple) else [node.type]:
+                        self.assertIn(one.id, ("PlanError", "GateError", "PlaceError", "KeyError"), path)
                 if isinstance(node, ast.Raise) and node.exc is not None:
                     self.assertRegex(node.exc.func.id, "^(Plan|Gate|Place|Bit|Code|Run)Error$")
 

@@ -5,6 +5,7 @@ import random
 import unittest
 
 from chipstack.building import build
+from chipstack.errors import GateError
 from chipstack.gates import Run
 from chipstack.plans import parse_plans
 from chipstack.simplifying import simplified
@@ -255,6 +256,15 @@ class CellRunTest(unittest.TestCase):
         cells = Cells([Cell([A, A], 0b1000), Cell([A, A], 0b0110)], {("x", 0): 0, ("x", 1): 1}, [("a", 0)])
         run = CellRun(cells)
         self.assertEqual([run.step({"a": bit})["x"] for bit in (0, 1)], [0, 1])
+
+    def test_a_name_that_lacks(self):
+        rows = [Cell([A, ("cell", 0)], 6, 1), Cell([A], 1)]
+        run = CellRun(Cells(rows, {("x", 0): 0, ("x", 1): 1}, [("a", 0)]))
+        run.step({"a": 1})
+        for call in (run.values, run.given, run.step):
+            with self.assertRaises(GateError):
+                call({"b": 1})
+            self.assertEqual(run.state, {0: 0})
 
     def test_the_cells_given_stay(self):
         cells = self.cells()
