@@ -1,6 +1,7 @@
 """Placing: cells in a square of tiles, pads around it, so that what belongs together stands together."""
 
 from chipstack.errors import PlaceError
+from chipstack.mixing import below, mixed_on, seeded
 
 EAST = 0
 SOUTH = 1
@@ -10,7 +11,6 @@ NORTH = 3
 STEPS = ((1, 0), (0, 1), (-1, 0), (0, -1))
 MOST_SIDE = 40
 MOST_WORSE = 3
-MIXED = 1 << 64
 
 
 class Layout:
@@ -101,15 +101,12 @@ class Placer:
                 if row[0] == "cell" and source not in self.belongs[row[1]]:
                     self.belongs[row[1]].append(source)
         self.standing = {tile: number for number, tile in enumerate(self.layout.tiles)}
-        self.mixed = int(seed) % MIXED
-        # The first numbers of seeds that are near each other would be near each other, too.
-        for _ in range(4):
-            self.roll(2)
+        self.mixed = seeded(seed)
 
     def roll(self, many):
         """Return a number from 0 to below another one."""
-        self.mixed = (self.mixed * 6364136223846793005 + 1442695040888963407) % MIXED
-        return (self.mixed >> 32) % many
+        self.mixed = mixed_on(self.mixed)
+        return below(self.mixed, many)
 
     def try_swap(self, worse):
         """Let a cell and a tile's cell change places, if that makes nets at most so much longer; return the change."""

@@ -6,14 +6,26 @@ import inspect
 import pathlib
 import unittest
 
+from chipstack.assembler import assemble, instruction_of, line_parts, listing
 from chipstack.building import Builder, build
+from chipstack.chains import chain_order, set_by_chain, with_chain
+from chipstack.compiling import Compiler, compile_program, is_idle, shortened, without
+from chipstack.core import Board, core_text
+from chipstack.equality import (Deciding, Difference, bit_names, difference, ends_of, nodes_of, numbers_by, settled_nodes,
+                                shows)
+from chipstack.fabric import (MARK, Fabric, Finder, Tile, cells_in, choice_of, fabric_bytes, fabric_from, sum_bytes)
+from chipstack.faults import Test, TestMaker, all_faults, ends_by, fewer, finds, found_by, tests_for
 from chipstack.gates import Netlist, Run
+from chipstack.isa import INSTRUCTIONS, JUMPS, PLAIN, Machine, Size, decoded, encoded
 from chipstack.placing import Layout, Placer, first_layout
 from chipstack.plans import Plan, parse_plans
 from chipstack.plantext import Mark, PlanReader, marks_of
+from chipstack.programs import LineReader, Program, parse_program, program_text, tree_text, words_of
 from chipstack.routing import Heap, Router, Routes
 from chipstack.simplifying import Simplifier, simplified
 from chipstack.tables import Cell, CellRun, Cells, Cut, Mapper, cells_of
+from chipstack.timing import TimedRun, Timing, neighbour, number_of, value_at, wires_back
+from tests.placed import Placed
 
 PACKAGE = pathlib.Path(__file__).resolve().parent.parent / "chipstack"
 TEXT = "plan p\nin a 2\nout b 2\nkeep k 2 = 1\nk <- k + a\nb = k\nend\n"
@@ -54,6 +66,45 @@ INTERFACE = {
         "Routes": {"": "", "shown": "", "length": ""}, "Heap": {"": "", "put": "row"},
         "Router": {"": "layout", "add_wire": "source, tile, wall", "is_inside": "tile"}, "far": "one, other",
         "route_cells": "cells, layout"},
+    "timing": {
+        "Timing": {"": ""}, "wires_back": "routes, layout, ways, source, number", "neighbour": "tile, wall",
+        "timing_of": "cells, layout, routes, ways",
+        "TimedRun": {"": "cells, timing, beat", "step": "ins", "changes": "number, ins, seen"},
+        "value_at": "rows, time", "number_of": "bits"},
+    "fabric": {
+        "Tile": {"": "table, keeps, first, inputs, wires", "shown": ""},
+        "Fabric": {"": "side, tracks, tiles, pads", "tile": "x, y", "shown": ""}, "choice_of": "way, tracks",
+        "fabric_of": "cells, layout, routes, ways", "fabric_bytes": "fabric", "sum_bytes": "rows", "fabric_from": "rows",
+        "cells_in": "fabric", "Finder": {"": "fabric", "source": "x, y, choice"}},
+    "isa": {
+        "Size": {"": "data, code", "argument": "", "width": ""}, "check_instruction": "row, size", "encoded": "row, size",
+        "decoded": "code, size",
+        "Machine": {"": "size, code, coming=()", "instruction": "", "step": "", "run": "most", "shown": ""}},
+    "assembler": {
+        "line_parts": "line", "check_label": "name", "assemble": "text, size", "instruction_of": "words, places",
+        "listing": "code"},
+    "programs": {
+        "Program": {"": "numbers, rows, body", "shown": ""}, "words_of": "line",
+        "LineReader": {"": "marks", "here": "", "expression": "", "index": ""}, "parse_program": "text",
+        "program_text": "program", "tree_text": "tree, level=0"},
+    "compiling": {
+        "Compiler": {"": "size, program", "add": "word, number=0", "here": "label", "expression": "tree"},
+        "compile_program": "program, size", "shortened": "code", "is_idle": "code, place", "without": "code, gone"},
+    "core": {
+        "core_text": "size",
+        "Board": {"": "circuit, size, code, coming=()", "code_at": "place", "beat": "", "run": "most", "shown": ""}},
+    "equality": {
+        "Deciding": {"": "", "node": "place, low, high", "pick": "test, one, other", "gate": "gate, nodes",
+                     "some_way": "node"},
+        "bit_names": "netlist", "nodes_of": "netlist, names, deciding, still", "settled_nodes": "netlist, names, deciding",
+        "ends_of": "netlist, still", "Difference": {"": "end, ins, kept"}, "difference": "one, other",
+        "numbers_by": "names, way, word", "shows": "netlist, found"},
+    "faults": {
+        "Test": {"": "ins, kept", "shown": ""}, "all_faults": "netlist", "ends_by": "netlist, test, fault=None",
+        "finds": "netlist, test, fault", "found_by": "netlist, tests",
+        "TestMaker": {"": "netlist, seed", "roll": "many", "next_test": ""}, "tests_for": "netlist, seed=1, most=100",
+        "fewer": "netlist, tests"},
+    "chains": {"with_chain": "netlist", "chain_order": "netlist", "set_by_chain": "run, ins, bits"},
 }
 
 
@@ -153,6 +204,61 @@ class KindsTest(unittest.TestCase):
         self.are(tuple, layout.shown(), layout.spot(("cell", 0)), routes.shown())
         self.are(Layout, Placer(self.cells, 1).layout)
         self.assertIs(Router(layout).layout, layout)
+
+    def test_timing_and_fabric(self):
+        placed = Placed(self.cells)
+        timing, fabric = placed.timing(), placed.fabric()
+        run = TimedRun(self.cells, timing, timing.longest)
+        self.are(dict, Timing().there, Timing().reaches, timing.there, timing.reaches, run.state, run.before,
+                 run.step({"a": 1}), run.before, Finder(fabric).pads)
+        self.are(int, timing.longest, timing.worst, Timing().longest, value_at(((0, 1),), 0), number_of([1]))
+        self.are(list, wires_back(*placed.all[2:0:-1], placed.ways, ("cell", 0), 0), fabric.tiles)
+        self.are(tuple, neighbour((0, 0), 1), fabric.shown(), fabric.pads, fabric.tiles[0].inputs, fabric.tiles[0].wires,
+                 fabric.tiles[0].shown(), fabric_bytes(fabric), sum_bytes([1]), Finder(fabric).source(0, 0, 0), MARK)
+        self.are(bool, fabric.tiles[0].holds)
+        self.are(int, *fabric_bytes(fabric), fabric.tiles[0].first, choice_of(("tile",), 1))
+        self.are(Fabric, fabric, fabric_from(fabric_bytes(fabric)))
+        self.are(Tile, fabric.tile(0, 0), *fabric.tiles)
+        self.are(Cells, cells_in(fabric))
+
+    def test_instructions_and_programs(self):
+        machine, program = Machine(Size(4, 4), [("set", 1)], (1,)), parse_program("var a = 1\nrows r 2\nout r[a]")
+        self.are(tuple, INSTRUCTIONS, PLAIN, JUMPS, machine.code, machine.instruction(), machine.shown(), decoded(0, Size(4, 4)),
+                 line_parts("a: out"), assemble("out", Size(4, 4)), instruction_of(["out"], {}), program.body, program.shown(),
+                 LineReader(["a"]).expression(), LineReader(["[", "a", "]"]).index())
+        self.are(list, machine.coming, machine.memory, machine.sent, *line_parts("a: out"), words_of("a"))
+        self.are(bool, machine.halted, machine.run(1), machine.run(9), machine.halted)
+        self.are(str, listing([("out", 0)]), program_text(program), tree_text(("in",)), LineReader([]).here())
+        self.are(int, encoded(("set", 1), Size(4, 4)), Size(2, 3).data, Size(2, 3).code, Size(2, 3).width())
+        self.are(dict, program.rows)
+        self.are(Program, program)
+
+    def test_compiling_and_the_core(self):
+        size, program = Size(4, 4), parse_program("var a = 1\nout a")
+        compiler, board = Compiler(size, program), Board(Run(self.netlist), size, [("set", 1)], (1,))
+        self.are(dict, compiler.places)
+        self.are(list, compiler.code, board.codes, board.coming, board.memory, board.sent)
+        self.are(tuple, compile_program(program, size), shortened([("jump", 1)]), without([("jump", 1)], 0), board.shown())
+        self.are(bool, is_idle([("jump", 1)], 0), is_idle([("out", 0)], 0), board.halted, board.run(0))
+        self.are(int, board.beats, board.code_at(0), board.code_at(9))
+        self.are(str, core_text(size))
+
+    def test_equality_faults_and_chains(self):
+        netlist, names = self.netlist, bit_names(self.netlist)
+        other = build(parse_plans(TEXT.replace("k + a", "k - a")), "p")
+        nodes, still = settled_nodes(netlist, names, Deciding())
+        found, test = difference(netlist, other), TestMaker(netlist, 1).next_test()
+        self.are(Difference, found)
+        self.are(tuple, names, found.end, settled_nodes(netlist, names, Deciding()), all_faults(netlist), test.shown(),
+                 ends_by(netlist, test), found_by(netlist, [test]), tests_for(netlist), *tests_for(netlist),
+                 fewer(netlist, [test]), chain_order(netlist), set_by_chain(Run(with_chain(netlist)), {"a": 0}, [0, 1]))
+        self.are(list, nodes, nodes_of(netlist, names, Deciding(), {}))
+        self.are(dict, still, ends_of(netlist, {}), found.comes, found.stored, numbers_by(names, {}, "in"), test.comes,
+                 test.stored, TestMaker(netlist, 1).widths, Deciding().some_way(1))
+        self.are(int, shows(netlist, found), TestMaker(netlist, 1).roll(5), Deciding().node(0, 0, 1), *nodes)
+        self.are(bool, finds(netlist, test, (2, 1)))
+        self.are(Test, test, *tests_for(netlist)[0])
+        self.are(Netlist, with_chain(netlist))
 
     def test_what_is_given_is_not_held_where_it_is_changed(self):
         tiles, pads = [(0, 0)], {}

@@ -1,0 +1,112 @@
+"""The core: a plan of the machine that carries out instructions, and a board with its code and memory."""
+
+from chipstack.errors import CodeError, RunError
+from chipstack.isa import BITS_OF_WORD, INSTRUCTIONS, encoded
+
+
+def core_text(size):
+    """Return the text of the plan of a machine of a size."""
+    lines = ["plan core"]
+    lines.extend(["  " + line for line in head_lines(size)])
+    lines.extend(["  " + line for line in let_lines(size)])
+    lines.extend(["  " + line for line in next_lines(size)])
+    lines.extend(["  " + line for line in give_lines()])
+    return "\n".join([*lines, "end", ""])
+
+
+def head_lines(size):
+    """Return the lines of what comes in, goes out and is kept."""
+    data, code = size.data, size.code
+    return [f"in code {size.width()}", f"in data {data}", f"in come {data}", f"out at {code}", f"out where {data}",
+            "out write 1", f"out value {data}", "out send 1", "out take 1", "out stop 1", f"keep place {code} = 0",
+            f"keep acc {data} = 0", "keep carry 1 = 0", "keep phase 1 = 0", f"keep aim {data} = 0"]
+
+
+def is_word(word):
+    """Return an expression for whether an instruction has a word."""
+    return f"word == {INSTRUCTIONS.index(word)}:{BITS_OF_WORD}"
+
+
+def let_lines(size):
+    """Return the lines of what an instruction is, and of sums and differences with a bit for the carry above."""
+    data, code = size.data, size.code
+    return [f"let word = code[{size.width() - 1}:{size.argument()}]", f"let number = code[{data - 1}:0]",
+            f"let target = code[{code - 1}:0]", f"let far = {is_word('from')} | {is_word('to')}",
+            "let first = far & ~phase", f"let total = wide(acc, {data + 1}) + wide(data, {data + 1})",
+            f"let rest = wide(acc, {data + 1}) - wide(data, {data + 1})",
+            f"let jumps = {is_word('jump')} | {is_word('zero')} & ~any(acc) | {is_word('less')} & carry"]
+
+
+def next_lines(size):
+    """Return the lines of what is kept next."""
+    data, code = size.data, size.code
+    top = f"{data - 1}:0"
+    place = f"if first | {is_word('halt')} then place else if jumps then target else place + 1:{code}"
+    adds, takes, halves = is_word("add"), is_word("sub"), is_word("half")
+    acc = (f"if {is_word('set')} then number else if {is_word('load')} | {is_word('from')} & phase then data else "
+           f"if {adds} then total[{top}] else if {takes} then rest[{top}] else "
+           f"if {is_word('and')} then acc & data else if {is_word('xor')} then acc ^ data else "
+           f"if {is_word('in')} then come else if {halves} then acc >> 1 else acc")
+    carry = f"if {adds} then total[{data}] else if {takes} then rest[{data}] else if {halves} then acc[0] else carry"
+    return [f"place <- {place}", f"acc <- {acc}", f"carry <- {carry}", "phase <- first",
+            "aim <- if first then data else aim"]
+
+
+def give_lines():
+    """Return the lines of what goes out."""
+    return ["at = place", "where = if phase then aim else number",
+            f"write = {is_word('store')} | {is_word('to')} & phase", "value = acc", f"send = {is_word('out')}",
+            f"take = {is_word('in')}", f"stop = {is_word('halt')}"]
+
+
+class Board:
+    """A run of the core's circuit, the codes, memory, what comes in, and what went out.
+
+    Any circuit does that has step and given over tables of numbers, with the core's names.
+    """
+
+    def __init__(self, circuit, size, code, coming=()):
+        if len(code) > 1 << size.code:
+            raise CodeError(f"{len(code)} instructions are too many")
+        self.circuit = circuit
+        self.size = size
+        self.codes = [encoded(row, size) for row in code]
+        self.coming = list(coming)
+        self.memory = [0] * (1 << size.data)
+        self.sent = []
+        self.halted = False
+        self.beats = 0
+
+    def code_at(self, place):
+        """Return the code at a place, 0 behind the last one."""
+        return self.codes[place] if place < len(self.codes) else 0
+
+    def beat(self):
+        """Let one beat of the clock pass: the circuit is asked where it looks first; raise RunError behind a halt."""
+        if self.halted:
+            raise RunError("the machine has halted")
+        coming = self.coming[0] if self.coming else 0
+        ins = {"code": 0, "data": 0, "come": coming & (1 << self.size.data) - 1}
+        ins["code"] = self.code_at(self.circuit.given(ins)["at"])
+        ins["data"] = self.memory[self.circuit.given(ins)["where"]]
+        outs = self.circuit.step(ins)
+        self.beats += 1
+        if outs["write"]:
+            self.memory[outs["where"]] = outs["value"]
+        if outs["send"]:
+            self.sent.append(outs["value"])
+        if outs["take"] and self.coming:
+            self.coming.pop(0)
+        self.halted = outs["stop"] == 1
+
+    def run(self, most):
+        """Let beats pass until it halts, or so many; return whether it halted."""
+        for _ in range(most):
+            if self.halted:
+                return True
+            self.beat()
+        return self.halted
+
+    def shown(self):
+        """Return (memory, what went out, whether it halted)."""
+        return (tuple(self.memory), tuple(self.sent), self.halted)
