@@ -62,13 +62,16 @@ class Compiler:
 
     def expression(self, tree):
         """Let the accumulator be an expression's value."""
-        many, free = len(self.code), self.free
+        many, free, deepest = len(self.code), self.free, self.deepest
+        labels = {label: self.labels[label] for label in self.labels}
         try:
             self.value(tree)
         except CodeError:
             # What raises changes nothing: the code that did fit goes again.
             del self.code[many:]
             self.free = free
+            self.deepest = deepest
+            self.labels = labels
             raise
 
     def value(self, tree):
@@ -92,8 +95,7 @@ class Compiler:
 
     def row_place(self, name, tree):
         """Reckon the place in memory of a row's number; return the free place that is taken to hold it."""
-        # A row of nothing may stand behind the last place, which is as good as place 0.
-        first = self.place_of(name) & (1 << self.size.data) - 1
+        first = self.place_of(name)
         self.value(tree)
         place = self.take_free()
         self.add("store", place)

@@ -41,15 +41,19 @@ def next_lines(size):
     """Return the lines of what is kept next."""
     data, code = size.data, size.code
     top = f"{data - 1}:0"
-    place = f"if first | {is_word('halt')} then place else if jumps then target else place + 1:{code}"
     adds, takes, halves = is_word("add"), is_word("sub"), is_word("half")
-    acc = (f"if {is_word('set')} then number else if {is_word('load')} | {is_word('from')} & phase then data else "
-           f"if {adds} then total[{top}] else if {takes} then rest[{top}] else "
-           f"if {is_word('and')} then acc & data else if {is_word('xor')} then acc ^ data else "
-           f"if {is_word('in')} then come else if {halves} then acc >> 1 else acc")
-    carry = f"if {adds} then total[{data}] else if {takes} then rest[{data}] else if {halves} then acc[0] else carry"
+    place = first_of([("first | " + is_word("halt"), "place"), ("jumps", "target")], f"place + 1:{code}")
+    acc = first_of([(is_word("set"), "number"), (is_word("load"), "data"), (is_word("from") + " & phase", "data"),
+                    (adds, f"total[{top}]"), (takes, f"rest[{top}]"), (is_word("and"), "acc & data"),
+                    (is_word("xor"), "acc ^ data"), (is_word("in"), "come"), (halves, "acc >> 1")], "acc")
+    carry = first_of([(adds, f"total[{data}]"), (takes, f"rest[{data}]"), (halves, "acc[0]")], "carry")
     return [f"place <- {place}", f"acc <- {acc}", f"carry <- {carry}", "phase <- first",
             "aim <- if first then data else aim"]
+
+
+def first_of(rows, last):
+    """Return an expression for what stands beside the first condition that holds, else for the last one."""
+    return "".join([f"if {test} then {told} else " for test, told in rows]) + last
 
 
 def give_lines():

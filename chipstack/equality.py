@@ -48,22 +48,34 @@ class Deciding:
         """Let nodes be as they were when there were so many: what raises changes nothing."""
         for number in [number for number in self.nodes if number >= many + 2]:
             self.made.pop(self.nodes.pop(number))
-        self.memo = {key: self.memo[key] for key in self.memo if max(*key, self.memo[key]) < many + 2}
+        self.memo = {key: self.memo[key] for key in self.memo if max([*key, self.memo[key]]) < many + 2}
 
     def chosen(self, test, one, other):
         """Return the node that is another one where a test is 1, wherever that leads to."""
+        # As many bits as there are may be asked one below the other, so what waits stands in a row of its own.
+        waiting = [(test, one, other)]
+        while waiting:
+            key = waiting[-1]
+            if self.known(key) is None:
+                place = min(self.nodes[node][0] for node in key if node > 1)
+                lower = tuple(self.behind(node, place, 1) for node in key)
+                upper = tuple(self.behind(node, place, 2) for node in key)
+                lacking = [row for row in (lower, upper) if self.known(row) is None]
+                waiting.extend(lacking)
+                if lacking == []:
+                    self.memo[key] = self.node(place, self.known(lower), self.known(upper))
+            else:
+                waiting.pop()
+        return self.known((test, one, other))
+
+    def known(self, key):
+        """Return the node that is another one where a test is 1, if that is seen at once or was found before."""
+        test, one, other = key
         if test < 2 or one == other:
             return other if test == 1 else one
         if one == 0 and other == 1:
             return test
-        key = (test, one, other)
-        if key not in self.memo:
-            place = min(self.nodes[node][0] for node in key if node > 1)
-            lows = [self.behind(node, place, 1) for node in key]
-            highs = [self.behind(node, place, 2) for node in key]
-            low = self.chosen(lows[0], lows[1], lows[2])
-            self.memo[key] = self.node(place, low, self.chosen(highs[0], highs[1], highs[2]))
-        return self.memo[key]
+        return self.memo.get(key, None)
 
     def behind(self, node, place, answer):
         """Return what a node leads to by an answer to the bit of a place: itself if it does not ask that bit."""

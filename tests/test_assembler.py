@@ -110,7 +110,7 @@ class AssembleTest(unittest.TestCase):
         self.assertEqual([instruction_of([word, "a"], places) for word in ("jump", "zero", "less")],
                          [("jump", 7), ("zero", 7), ("less", 7)])
         self.assertEqual(instruction_of(["jump", "999"], places), ("jump", 999))
-        for words in ([], [""], ["a"], ["set"], ["set", ""], ["set", "a"], ["jump", "b"], ["out", "1"], ["set", "1", "2"],
+        for words in ([], [""], ["a"], ["sett", "1"], ["SET", "1"], ["set"], ["set", ""], ["set", "a"], ["jump", "b"], ["out", "1"], ["set", "1", "2"],
                       ["set", "1234"]):
             self.assertRaises(CodeError, instruction_of, words, places)
         self.assertEqual(places, {"a": 7})

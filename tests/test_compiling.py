@@ -183,6 +183,15 @@ class CompilerTest(unittest.TestCase):
 
     def test_at_the_beginning(self):
         self.assertEqual((self.compiler.places, self.compiler.code), ({"a": 0, "b": 1, "r": 2}, []))
+        self.assertEqual((self.compiler.free, self.compiler.deepest), (5, 5))
+
+    def test_places_are_free_again(self):
+        tree = ("op", "-", ("at", "r", ("in",)), ("op", "+", ("in",), ("in",)))
+        for _ in range(3):
+            self.compiler.expression(tree)
+            self.assertEqual((self.compiler.free, self.compiler.deepest), (5, 7))
+        text = "rows r 2\n" + "r[in] = in + in\nout r[in]\n" * 9
+        self.assertEqual(len(ran(compile_program(parse_program(text), Size(3, 8)), Size(3, 8)).sent), 9)
 
     def test_adding(self):
         self.compiler.add("set", 3)
@@ -214,9 +223,10 @@ class CompilerTest(unittest.TestCase):
         for _ in range(30):
             deep = ("op", "+", ("in",), deep)
         for tree in (("name", "c"), ("at", "t", ("in",)), ("op", "+", ("name", "a"), ("name", "c")), deep):
-            free = self.compiler.free
+            self.assertRaises(CodeError, self.compiler.expression, ("op", "-", ("op", "==", ("in",), ("in",)), tree))
             self.assertRaises(CodeError, self.compiler.expression, tree)
-            self.assertEqual((self.compiler.code, self.compiler.free), ([("load", 0)], free))
+            self.assertEqual((self.compiler.code, self.compiler.labels), ([("load", 0)], {}))
+            self.assertEqual((self.compiler.free, self.compiler.deepest), (5, 5))
 
 
 class ShortenedTest(unittest.TestCase):
@@ -229,6 +239,8 @@ class ShortenedTest(unittest.TestCase):
     def test_jumps_to_the_next_place(self):
         self.assertEqual(shortened((("jump", 1), ("out", 0), ("zero", 3), ("less", 4), ("halt", 0))),
                          (("out", 0), ("halt", 0)))
+        # What stands ahead of what went may be idle only then.
+        self.assertEqual(shortened((("jump", 2), ("jump", 2), ("out", 0))), (("out", 0),))
         # Once the jump is gone nothing goes to the load any more.
         self.assertEqual(shortened((("store", 0), ("jump", 2), ("load", 0), ("out", 0))), (("store", 0), ("out", 0)))
 
@@ -261,6 +273,7 @@ class ShortenedTest(unittest.TestCase):
         code = (("jump", 0), ("zero", 1), ("less", 2), ("jump", 3), ("set", 3), ("load", 9))
         self.assertEqual(without(code, 1), (("jump", 0), ("less", 1), ("jump", 2), ("set", 3), ("load", 9)))
         self.assertEqual(without(code, 5), code[:5])
+        self.assertEqual(without((("jump", 1), ("out", 0), ("in", 0)), 1), (("jump", 1), ("in", 0)))
         self.assertEqual(without(list(code), 0), (("zero", 0), ("less", 1), ("jump", 2), ("set", 3), ("load", 9)))
 
     def test_drawn_code_does_the_same(self):

@@ -115,6 +115,39 @@ class DecidingTest(unittest.TestCase):
         self.assertRaises(GateError, self.many_gates, deciding, row)
         self.assertEqual(deciding.node(5000, 0, 1), max(deciding.nodes))
 
+    def test_what_was_picked_is_forgotten_too(self):
+        for room in range(1, 12):
+            deciding = Deciding()
+            rows = [deciding.node(place, 0, 1) for place in range(4000 - room)]
+            table = {place: place & 1 for place in range(4000)}
+
+            def turned(node):
+                return deciding.pick(node, 1, 0)
+
+            def unlike(one, other):
+                return deciding.pick(one, other, turned(other))
+
+            nodes = dict(deciding.nodes)
+            for at in range(10, 60, 10):
+                try:
+                    unlike(rows[at], unlike(rows[at + 1], rows[at + 2]))
+                except GateError:
+                    break
+                nodes = dict(deciding.nodes)
+            many = len(deciding.nodes)
+            self.assertLess(many - len(nodes), 4)
+            # Other nodes take the numbers that were given for nothing.
+            while len(deciding.nodes) < 4000:
+                deciding.node(4000 + len(deciding.nodes), 0, 1)
+            for at in range(10, 60):
+                for one, other in ((rows[at], rows[at + 1]), (rows[at + 1], rows[at + 2])):
+                    try:
+                        found = unlike(one, other)
+                    except GateError:
+                        continue
+                    bits = {**{place: 0 for place in range(9000)}, **table}
+                    self.assertEqual(node_value(deciding, found, bits), 1)
+
     def many_gates(self, deciding, row):
         """Make nodes of gates up to an error; test that the one that raises leaves none."""
         for at in range(1, 20):
@@ -144,6 +177,20 @@ class NodesTest(unittest.TestCase):
                 for gate in netlist.gates:
                     values.append(told[gate[:3]] if gate[:3] in told else gate_value(gate, values))
                 self.assertEqual([node_value(deciding, node, bits) for node in nodes], values)
+
+    def test_more_bits_below_each_other_than_calls_may_be(self):
+        netlist = Netlist()
+        for at in range(1500):
+            netlist.add(("in", f"a{at // 30}", at % 30))
+        last = 0
+        for at in range(1, 1500):
+            last = netlist.add(("and", last, at))
+        deciding = Deciding()
+        # Asked from the other end on, each gate has just one node more than the one ahead of it.
+        nodes = nodes_of(netlist, [gate[:3] for gate in reversed(netlist.gates[:1500])], deciding, {})
+        self.assertEqual(deciding.some_way(nodes[last]), {place: 1 for place in range(1500)})
+        self.assertEqual(deciding.pick(nodes[last], 1, nodes[last]), 1)
+        self.assertEqual(deciding.pick(nodes[last], 0, nodes[last]), nodes[last])
 
     def test_keeps_that_stand_still_are_their_first_bits(self):
         netlist = plan("in a 1", "out y 2", "keep k 2 = 2", "k <- k", "y = k")
@@ -315,6 +362,10 @@ class DifferenceTest(unittest.TestCase):
         one, other = plan(*head, "y = k[2] & a[3] & s[1]"), plan(*head, "y = 0:1")
         found = difference(one, other)
         self.assertEqual((found.end, found.comes, found.stored), (("out", "y", 0), {"a": 8, "b": 0}, {"k": 4, "s": 2}))
+        for both in ((plan("in a 1", "out y 1", "y = a"),
+                      plan("in a 1", "out y 1", "keep s 3 = 5", "keep t 3 = 3", "s <- s", "t <- t", "y = ~a")),):
+            for found in (difference(*both), difference(*both[::-1])):
+                self.assertEqual((found.comes, found.stored), ({"a": 0}, {"s": 5, "t": 3}))
 
     def test_fields(self):
         comes, stored = {"a": 1}, {"k": 2}
@@ -347,6 +398,13 @@ class WrongTest(unittest.TestCase):
         one, other = [plan(lines[0], f"keep k 2 = {first}", *lines[1:]) for first in (1, 3)]
         self.assertRaises(GateError, difference, one, other)
         self.assertRaises(GateError, difference, other, one)
+
+    def test_keeps_of_other_names_may_begin_otherwise(self):
+        lines = ("in a 1", "out y 1", "k <- a", "y = k")
+        one = plan(lines[0], "keep k 1 = 0", *lines[1:])
+        other = plan(lines[0], "keep c 1 = 1", "keep k 1 = 0", "c <- ~a", *lines[1:])
+        self.assertIsNone(difference(one, other))
+        self.assertIsNone(difference(other, one))
 
     def test_200_bits_and_201(self):
         def netlist(many, name):

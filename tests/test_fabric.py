@@ -320,6 +320,13 @@ class FoundAgainTest(unittest.TestCase):
         found = cells_in(plain(1, 1, {(0, 0): empty(1, east0=2 + WEST)}, pads))
         self.assertEqual([CellRun(found).given({"a": bit}) for bit in (0, 1)], [{"y": 0, "z": 0}, {"y": 1, "z": 0}])
 
+    def test_tracks_of_pads(self):
+        tile = Tile(0x5555, False, 0, [2 + 2 * WEST + 1, 0, 0, 0], wire_row(2, {"east0": 2 + 2 * NORTH + 1, "east1": 1}))
+        for track, values in ((0, [0, 0, 1, 1]), (1, [1, 0, 1, 0])):
+            pads = [(EAST, 0, "out", "y", 0, track), (WEST, 0, "in", "a", 0, 1), (NORTH, 0, "in", "a", 1, 1)]
+            run = CellRun(cells_in(Fabric(1, 2, [tile], pads)))
+            self.assertEqual([run.given({"a": number})["y"] for number in range(4)], values)
+
     def test_an_out_that_is_always_zero(self):
         netlist = circuit("plan p\nin a 1\nout y 2\ny = wide(a, 2)\nend\n")
         found = cells_in(fabric_from(fabric_bytes(Placed(cells_of(netlist)).fabric())))

@@ -2,8 +2,10 @@
 
 import ast
 import builtins
+import io
 import pathlib
 import re
+import tokenize
 import unittest
 
 PACKAGE = pathlib.Path(__file__).resolve().parent.parent / "chipstack"
@@ -186,6 +188,12 @@ class WordsTest(unittest.TestCase):
             for node in ast.walk(tree):
                 if isinstance(node, ast.Constant) and isinstance(node.value, str):
                     self.assertNotIn(chr(37), node.value, path)
+
+    def test_no_two_strings_stand_side_by_side(self):
+        for path in FILES:
+            kinds = [token.type for token in tokenize.generate_tokens(io.StringIO(path.read_text()).readline)
+                     if token.type not in (tokenize.NL, tokenize.COMMENT)]
+            self.assertNotIn((tokenize.STRING, tokenize.STRING), list(zip(kinds, kinds[1:])), path)
 
     def test_errors_that_are_caught_or_raised(self):
         for path, tree in trees():

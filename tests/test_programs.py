@@ -119,6 +119,11 @@ class ReaderTest(unittest.TestCase):
         # Beside each other, and in a row, there may be more.
         self.assertIsNotNone(tree_of(" + ".join(["(" * 6 + "a" + ")" * 6] * 4)))
         self.assertIsNotNone(tree_of("a" + " - a" * 28))
+        self.assertRaises(CodeError, tree_of, "(a) + (b) + (c) + " + "(" * 12 + "a" + ")" * 12)
+        reader = LineReader(words_of("[" + "a]"))
+        for _ in range(20):
+            self.assertRaises(CodeError, reader.expression)
+        self.assertEqual(reader.index(), A)
         reader = LineReader(words_of("(" * 12 + "a" + ")" * 12))
         self.assertRaises(CodeError, reader.expression)
         self.assertEqual(reader.here(), "(")

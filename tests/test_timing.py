@@ -155,6 +155,10 @@ class WiresBackTest(unittest.TestCase):
         del self.routes.wires[(0, 0, EAST, 0)]
         self.assertRaises(PlaceError, self.back, cell(0), 1)
 
+    def test_a_wire_that_carries_nothing_on(self):
+        del self.routes.sources[(0, 0, EAST, 0)]
+        self.assertRaises(PlaceError, self.back, cell(0), 1)
+
     def test_a_way_by_another_wire(self):
         for way in (("wire", WEST, 1), ("wire", SOUTH, 0), ("wire", EAST, 0), ("wire", NORTH, 0)):
             self.ways[(cell(0), 1)] = way
@@ -267,6 +271,19 @@ class TimedRunTest(unittest.TestCase):
         self.assertEqual((run.state, run.before), ({0: 1}, {0: 0, 1: 1}))
         self.assertEqual(run.changes(1, {"a": 1}, {}), ((0, 1), (6, 0)))
         self.assertEqual(run.changes(1, {"a": 0}, {}), ((0, 1), (6, 0), (8, 1)))
+
+    def test_what_came_in_before_stays_on_the_wires(self):
+        far = ("in", "a", 2)
+        pads = {far: (NORTH, 2), ("in", "b", 0): (WEST, 0), ("out", "y", 0): (EAST, 2)}
+        placed = row_of(Cells([Cell([far, ("in", "b", 0)], 0b0110)], {("y", 0): 0}, [("a", 2), ("b", 0)]), [(0, 0)], 3, pads)
+        timing = placed.timing()
+        self.assertEqual((timing.reaches[(far, 0)], timing.reaches[(("in", "b", 0), 0)]), (2, 0))
+        run = TimedRun(placed.cells, timing, 9)
+        self.assertEqual(run.changes(0, {"a": 4, "b": 0}, {}), ((0, 0), (6, 1)))
+        self.assertEqual(run.changes(0, {"a": 4, "b": 1}, {}), ((0, 0), (4, 1), (6, 0)))
+        run.step({"a": 4, "b": 0})
+        self.assertEqual(run.changes(0, {"a": 0, "b": 1}, {}), ((0, 1), (4, 0), (6, 1)))
+        self.assertEqual(run.changes(0, {"a": 7, "b": 0}, {}), ((0, 1),))
 
     def test_a_beat_that_is_one_too_short(self):
         rows = [{"a": bit} for bit in (1, 0, 1, 1, 0, 0, 1)]
