@@ -46,7 +46,8 @@ class Deciding:
 
     def forget(self, many):
         """Let nodes be as they were when there were so many: what raises changes nothing."""
-        for number in [number for number in self.nodes if number >= many + 2]:
+        gone = [number for number in self.nodes if number >= many + 2]
+        for number in gone:
             self.made.pop(self.nodes.pop(number))
         self.memo = {key: self.memo[key] for key in self.memo if max([*key, self.memo[key]]) < many + 2}
 

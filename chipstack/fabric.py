@@ -141,7 +141,7 @@ def fabric_bytes(fabric):
         found.extend([tile.table & 255, tile.table >> 8, 2 * int(tile.holds) + tile.first])
         found.extend(tile.inputs)
         found.extend(tile.wires)
-    for wall, place, word, name, bit, track in fabric.pads:
+    for wall, place, word, name, bit, track in sorted(fabric.pads):
         found.extend([wall, place, 1 if word == "out" else 0, bit, track, len(name)])
         found.extend([ord(sign) for sign in name])
     return (*found, *sum_bytes(found))

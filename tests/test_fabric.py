@@ -75,6 +75,12 @@ class BytesTest(unittest.TestCase):
         self.assertEqual([rows[6 + 11 * at] for at in range(4)], [0, 1, 2, 3])
         self.assertEqual(fabric_from(rows).shown(), fabric.shown())
 
+    def test_pads_are_told_ascending(self):
+        fabric, told = small()
+        turned = Fabric(1, 2, fabric.tiles, fabric.pads[::-1])
+        self.assertEqual(fabric_bytes(turned), own_sum(told))
+        self.assertEqual(turned.pads, fabric.pads[::-1])
+
     def test_sum(self):
         draw = random.Random(1)
         for many in (0, 1, 2, 10, 3000):
