@@ -90,7 +90,8 @@ class TimedRun:
         self.sequence = cells.order()
         self.state = {number: cell.first for number, cell in enumerate(cells.cells) if cell.first is not None}
         self.before = {}
-        # What came in in the beat before: it is on the wires until something else reaches a cell.
+        # What came in in the beat before: it is on the wires until something else reaches a cell. Ahead of the first
+        # beat that is what comes in then, just as what is kept is what it begins with.
         self.came = {}
 
     def step(self, ins):
@@ -142,8 +143,9 @@ class TimedRun:
         for source in self.cells.cells[number].inputs:
             reached = self.timing.reaches[(source, number)]
             if source[0] == "in":
-                earlier = self.came.get(source[1], 0) >> source[2] & 1
-                found.append((earlier, [(reached, input_bit(source, ins, {}))]))
+                now = input_bit(source, ins, {})
+                earlier = input_bit(source, self.came, {}) if source[1] in self.came else now
+                found.append((earlier, [(reached, now)]))
             elif source[1] in self.state:
                 kept = self.state[source[1]]
                 found.append((self.before.get(source[1], kept), [(reached, kept)]))

@@ -266,7 +266,7 @@ class TimedRunTest(unittest.TestCase):
         self.assertEqual((timing.reaches[(cell(0), 1)], timing.reaches[(A, 1)]), (2, 4))
         run = TimedRun(placed.cells, timing, 20)
         # The kept bit goes from 0 to 1 with the second beat: it reaches the other cell at 2, what comes in at 4.
-        self.assertEqual(run.changes(1, {"a": 1}, {}), ((0, 0), (8, 1)))
+        self.assertEqual(run.changes(1, {"a": 1}, {}), ((0, 0), (6, 1)))
         self.assertEqual(run.step({"a": 1}), {"y": 1})
         self.assertEqual((run.state, run.before), ({0: 1}, {0: 0, 1: 1}))
         self.assertEqual(run.changes(1, {"a": 1}, {}), ((0, 1), (6, 0)))
@@ -279,8 +279,9 @@ class TimedRunTest(unittest.TestCase):
         timing = placed.timing()
         self.assertEqual((timing.reaches[(far, 0)], timing.reaches[(("in", "b", 0), 0)]), (2, 0))
         run = TimedRun(placed.cells, timing, 9)
-        self.assertEqual(run.changes(0, {"a": 4, "b": 0}, {}), ((0, 0), (6, 1)))
-        self.assertEqual(run.changes(0, {"a": 4, "b": 1}, {}), ((0, 0), (4, 1), (6, 0)))
+        # What comes in first was there before, as what is kept first was.
+        self.assertEqual(run.changes(0, {"a": 4, "b": 0}, {}), ((0, 0), (4, 1)))
+        self.assertEqual(run.changes(0, {"a": 4, "b": 1}, {}), ((0, 0),))
         run.step({"a": 4, "b": 0})
         self.assertEqual(run.changes(0, {"a": 0, "b": 1}, {}), ((0, 1), (4, 0), (6, 1)))
         self.assertEqual(run.changes(0, {"a": 7, "b": 0}, {}), ((0, 1),))
