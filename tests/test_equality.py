@@ -116,37 +116,19 @@ class DecidingTest(unittest.TestCase):
         self.assertEqual(deciding.node(5000, 0, 1), max(deciding.nodes))
 
     def test_what_was_picked_is_forgotten_too(self):
-        for room in range(1, 12):
+        for pick in (lambda deciding, *key: deciding.pick(*key),
+                     lambda deciding, *key: deciding.gate(("pick", 0, 1, 2), key)):
             deciding = Deciding()
-            rows = [deciding.node(place, 0, 1) for place in range(4000 - room)]
-            table = {place: place & 1 for place in range(4000)}
-
-            def turned(node):
-                return deciding.pick(node, 1, 0)
-
-            def unlike(one, other):
-                return deciding.pick(one, other, turned(other))
-
-            nodes = dict(deciding.nodes)
-            for at in range(10, 60, 10):
-                try:
-                    unlike(rows[at], unlike(rows[at + 1], rows[at + 2]))
-                except GateError:
-                    break
-                nodes = dict(deciding.nodes)
-            many = len(deciding.nodes)
-            self.assertLess(many - len(nodes), 4)
-            # Other nodes take the numbers that were given for nothing.
-            while len(deciding.nodes) < 4000:
-                deciding.node(4000 + len(deciding.nodes), 0, 1)
-            for at in range(10, 60):
-                for one, other in ((rows[at], rows[at + 1]), (rows[at + 1], rows[at + 2])):
-                    try:
-                        found = unlike(one, other)
-                    except GateError:
-                        continue
-                    bits = {**{place: 0 for place in range(9000)}, **table}
-                    self.assertEqual(node_value(deciding, found, bits), 1)
+            rows = [deciding.node(place, 0, 1) for place in range(3997)]
+            one = deciding.node(0, rows[6], rows[7])
+            # Three nodes are needed; there is room for two.
+            self.assertRaises(GateError, pick, deciding, rows[5], one, rows[8])
+            self.assertEqual(len(deciding.nodes), 3998)
+            others = [deciding.node(place, 0, 1) for place in (4500, 4501)]
+            self.assertEqual(len(deciding.nodes), 4000)
+            for at in (6, 7):
+                self.assertRaises(GateError, pick, deciding, rows[5], rows[at], rows[8])
+            self.assertEqual([deciding.node(place, 0, 1) for place in (4500, 4501)], others)
 
     def many_gates(self, deciding, row):
         """Make nodes of gates up to an error; test that the one that raises leaves none."""
