@@ -6,6 +6,7 @@ from chipstack.mixing import below, mixed_on, seeded
 from chipstack.tables import gate_answers
 
 MOST_TESTS = 1000
+MOST_AT_ONCE = 1000
 
 
 class Test:
@@ -61,7 +62,16 @@ def finds(netlist, test, fault):
 
 
 def shown_faults(netlist, test, faults):
-    """Return those of some faults that a test finds, in order.
+    """Return those of some faults that a test finds, in order."""
+    found = []
+    # Without a fault the test is looked at all the same.
+    for start in range(0, max(1, len(faults)), MOST_AT_ONCE):
+        found.extend(shown_at_once(netlist, test, faults[start:start + MOST_AT_ONCE]))
+    return found
+
+
+def shown_at_once(netlist, test, faults):
+    """Return those of not too many faults that a test finds, in order.
 
     Each gate has a row of bits as one number, the lowest as without a fault, then one for each fault: so all faults
     are tried at once.

@@ -79,6 +79,17 @@ class FaultsTest(unittest.TestCase):
             self.assertEqual((netlist.shown(), shown(rows)), before)
         self.assertEqual(found_by(drawn_netlist(1), []), ())
 
+    def test_more_faults_than_are_tried_at_once(self):
+        for gates in (494, 495, 496, 1300):
+            netlist = drawn_netlist(gates, gates=gates)
+            faults = all_faults(netlist)
+            self.assertEqual(len(faults), 2 * gates + 10)
+            test = Test({"a": 5}, {"k": 2})
+            found = found_by(netlist, [test])
+            for fault in [*faults[:40], *faults[980:1030], *faults[1980:2020], *faults[-20:]]:
+                self.assertIs(fault in found, finds(netlist, test, fault))
+            self.assertEqual(sorted(set(found)), list(found))
+
     def test_what_lacks_in_a_test(self):
         netlist = plan("in a 1", "out y 1", "keep k 1 = 0", "k <- a", "y = k")
         for test in (Test({}, {"k": 0}), Test({"a": 0}, {}), Test({"k": 0}, {"a": 0})):
@@ -87,6 +98,10 @@ class FaultsTest(unittest.TestCase):
             self.assertRaises(GateError, finds, netlist, test, (2, 1))
             self.assertRaises(GateError, found_by, netlist, [test])
             self.assertRaises(GateError, fewer, netlist, [test])
+            # So it is where all faults are found already.
+            all_found = list(tests_for(netlist)[0])
+            self.assertEqual(found_by(netlist, all_found), all_faults(netlist))
+            self.assertRaises(GateError, found_by, netlist, [*all_found, test])
 
     def test_what_a_test_shows(self):
         comes, stored = {"b": 1, "a": 2}, {"z": 3, "c": 4}
