@@ -16,7 +16,9 @@ from chipstack.equality import (Deciding, Difference, bit_names, difference, end
 from chipstack.fabric import (MARK, Fabric, Finder, Tile, cells_in, choice_of, fabric_bytes, fabric_from, sum_bytes)
 from chipstack.faults import Test, TestMaker, all_faults, ends_by, fewer, finds, found_by, tests_for
 from chipstack.gates import Netlist, Run
+from chipstack.guarding import guard_text, mend_text, odd_of, rest_text, spots_of
 from chipstack.isa import INSTRUCTIONS, JUMPS, PLAIN, Machine, Size, decoded, encoded
+from chipstack.pipes import Stager, in_stages
 from chipstack.placing import Layout, Placer, first_layout
 from chipstack.plans import Plan, parse_plans
 from chipstack.plantext import Mark, PlanReader, marks_of
@@ -25,6 +27,10 @@ from chipstack.routing import Heap, Router, Routes
 from chipstack.simplifying import Simplifier, simplified
 from chipstack.tables import Cell, CellRun, Cells, Cut, Mapper, cells_of
 from chipstack.timing import TimedRun, Timing, neighbour, number_of, value_at, wires_back
+from chipstack.traffic import queue_text, receiver_text, sender_text, turns_text
+from chipstack.units import (check_size, first_text, gray_text, ones_text, plan_of, product_text, quotient_text, sorted_text,
+                             turned_text)
+from chipstack.waves import Wave, head_of, number_of_text, read_wave
 from tests.placed import Placed
 
 PACKAGE = pathlib.Path(__file__).resolve().parent.parent / "chipstack"
@@ -105,6 +111,20 @@ INTERFACE = {
         "TestMaker": {"": "netlist, seed", "roll": "many", "next_test": ""}, "tests_for": "netlist, seed=1, most=100",
         "fewer": "netlist, tests"},
     "chains": {"with_chain": "netlist", "chain_order": "netlist", "set_by_chain": "run, ins, bits"},
+    "waves": {
+        "Wave": {"": "widths", "add": "table", "wave_text": "", "changes": "name", "first_unlike": "other"},
+        "read_wave": "text", "head_of": "line", "number_of_text": "text"},
+    "units": {
+        "check_size": "number, least, most", "plan_of": "name, lines", "product_text": "width", "quotient_text": "width",
+        "turned_text": "width", "ones_text": "width", "first_text": "width", "sorted_text": "many, width",
+        "gray_text": "width"},
+    "traffic": {
+        "queue_text": "places, width", "turns_text": "many", "sender_text": "width, beats",
+        "receiver_text": "width, beats"},
+    "guarding": {
+        "spots_of": "width", "odd_of": "name, bits", "guard_text": "width", "mend_text": "width",
+        "rest_text": "width, pattern"},
+    "pipes": {"in_stages": "netlist, many", "Stager": {"": "netlist, many"}},
 }
 
 
@@ -259,6 +279,20 @@ class KindsTest(unittest.TestCase):
         self.are(bool, finds(netlist, test, (2, 1)))
         self.are(Test, test, *tests_for(netlist)[0])
         self.are(Netlist, with_chain(netlist))
+
+    def test_waves_units_and_pipes(self):
+        wave = Wave([["a", 4]])
+        wave.add({"a": 3})
+        self.are(tuple, wave.widths, wave.widths[0], wave.rows[0], wave.changes("a"), wave.changes("a")[0], head_of("a 1"),
+                 wave.first_unlike(read_wave("a 4\n\n#0 a=1\n")), spots_of(4))
+        self.are(list, wave.rows, Wave([]).rows, *spots_of(4), Stager(self.netlist, 2).stages)
+        self.are(str, wave.wave_text(), plan_of("p", []), odd_of("a", [1]), product_text(1), quotient_text(1),
+                 turned_text(2), ones_text(1), first_text(1), sorted_text(2, 1), gray_text(1), queue_text(1, 1),
+                 turns_text(2), sender_text(1, 1), receiver_text(1, 1), guard_text(4), mend_text(4), rest_text(1, 0))
+        self.are(int, number_of_text("12"))
+        self.are(Wave, read_wave("\n"))
+        self.are(Netlist, in_stages(Netlist(), 1))
+        self.assertIsNone(check_size(1, 1, 1))
 
     def test_what_is_given_is_not_held_where_it_is_changed(self):
         tiles, pads = [(0, 0)], {}
