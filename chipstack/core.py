@@ -10,7 +10,7 @@ def core_text(size):
     lines.extend(["  " + line for line in head_lines(size)])
     lines.extend(["  " + line for line in let_lines(size)])
     lines.extend(["  " + line for line in next_lines(size)])
-    lines.extend(["  " + line for line in give_lines()])
+    lines.extend(["  " + line for line in give_lines(is_word("halt"))])
     return "\n".join([*lines, "end", ""])
 
 
@@ -27,11 +27,14 @@ def is_word(word):
     return f"word == {INSTRUCTIONS.index(word)}:{BITS_OF_WORD}"
 
 
-def let_lines(size):
-    """Return the lines of what an instruction is, and of sums and differences with a bit for the carry above."""
+def let_lines(size, source="code"):
+    """Return the lines of what an instruction is, and of sums and differences with a bit for the carry above.
+
+    source is the name of the bits that are the instruction's code.
+    """
     data, code = size.data, size.code
-    return [f"let word = code[{size.width() - 1}:{size.argument()}]", f"let number = code[{data - 1}:0]",
-            f"let target = code[{code - 1}:0]", f"let far = {is_word('from')} | {is_word('to')}",
+    return [f"let word = {source}[{size.width() - 1}:{size.argument()}]", f"let number = {source}[{data - 1}:0]",
+            f"let target = {source}[{code - 1}:0]", f"let far = {is_word('from')} | {is_word('to')}",
             "let first = far & ~phase", f"let total = wide(acc, {data + 1}) + wide(data, {data + 1})",
             f"let rest = wide(acc, {data + 1}) - wide(data, {data + 1})",
             f"let jumps = {is_word('jump')} | {is_word('zero')} & ~any(acc) | {is_word('less')} & carry"]
@@ -39,16 +42,20 @@ def let_lines(size):
 
 def next_lines(size):
     """Return the lines of what is kept next."""
-    data, code = size.data, size.code
+    place = first_of([("first | " + is_word("halt"), "place"), ("jumps", "target")], f"place + 1:{size.code}")
+    return [f"place <- {place}", *reckoned_lines(size)]
+
+
+def reckoned_lines(size):
+    """Return the lines of what is kept next but for the place: what an instruction reckons, and between two beats."""
+    data = size.data
     top = f"{data - 1}:0"
     adds, takes, halves = is_word("add"), is_word("sub"), is_word("half")
-    place = first_of([("first | " + is_word("halt"), "place"), ("jumps", "target")], f"place + 1:{code}")
     acc = first_of([(is_word("set"), "number"), (is_word("load"), "data"), (is_word("from") + " & phase", "data"),
                     (adds, f"total[{top}]"), (takes, f"rest[{top}]"), (is_word("and"), "acc & data"),
                     (is_word("xor"), "acc ^ data"), (is_word("in"), "come"), (halves, "acc >> 1")], "acc")
     carry = first_of([(adds, f"total[{data}]"), (takes, f"rest[{data}]"), (halves, "acc[0]")], "carry")
-    return [f"place <- {place}", f"acc <- {acc}", f"carry <- {carry}", "phase <- first",
-            "aim <- if first then data else aim"]
+    return [f"acc <- {acc}", f"carry <- {carry}", "phase <- first", "aim <- if first then data else aim"]
 
 
 def first_of(rows, last):
@@ -56,11 +63,11 @@ def first_of(rows, last):
     return "".join([f"if {test} then {told} else " for test, told in rows]) + last
 
 
-def give_lines():
-    """Return the lines of what goes out."""
+def give_lines(stop):
+    """Return the lines of what goes out; stop is the condition by which the machine halts."""
     return ["at = place", "where = if phase then aim else number",
             f"write = {is_word('store')} | {is_word('to')} & phase", "value = acc", f"send = {is_word('out')}",
-            f"take = {is_word('in')}", f"stop = {is_word('halt')}"]
+            f"take = {is_word('in')}", f"stop = {stop}"]
 
 
 class Board:

@@ -11,9 +11,12 @@ from chipstack.building import Builder, build
 from chipstack.chains import chain_order, set_by_chain, with_chain
 from chipstack.compiling import Compiler, compile_program, is_idle, shortened, without
 from chipstack.core import Board, core_text
+from chipstack.desk import Desk, bits_of
+from chipstack.direct import Maker, direct_text, run_direct
 from chipstack.equality import (Deciding, Difference, bit_names, difference, ends_of, nodes_of, numbers_by, settled_nodes,
                                 shows)
 from chipstack.fabric import (MARK, Fabric, Finder, Tile, cells_in, choice_of, fabric_bytes, fabric_from, sum_bytes)
+from chipstack.fast import fast_text
 from chipstack.faults import Test, TestMaker, all_faults, ends_by, fewer, finds, found_by, tests_for
 from chipstack.gates import Netlist, Run
 from chipstack.guarding import guard_text, mend_text, odd_of, rest_text, spots_of
@@ -25,6 +28,8 @@ from chipstack.plantext import Mark, PlanReader, marks_of
 from chipstack.programs import LineReader, Program, parse_program, program_text, tree_text, words_of
 from chipstack.routing import Heap, Router, Routes
 from chipstack.simplifying import Simplifier, simplified
+from chipstack.states import Explorer, input_tables, same_states
+from chipstack.station import Station, line_of, loader_text, program_bytes, station_text
 from chipstack.tables import Cell, CellRun, Cells, Cut, Mapper, cells_of
 from chipstack.timing import TimedRun, Timing, neighbour, number_of, value_at, wires_back
 from chipstack.traffic import queue_text, receiver_text, sender_text, turns_text
@@ -125,6 +130,19 @@ INTERFACE = {
         "spots_of": "width", "odd_of": "name, bits", "guard_text": "width", "mend_text": "width",
         "rest_text": "width, pattern"},
     "pipes": {"in_stages": "netlist, many", "Stager": {"": "netlist, many"}},
+    "direct": {
+        "Maker": {"": "program, data", "add": "deed, following=None"}, "direct_text": "program, data",
+        "run_direct": "circuit, data, coming, most"},
+    "fast": {"fast_text": "size"},
+    "states": {
+        "input_tables": "netlist",
+        "Explorer": {"": "netlist", "put": "state", "way_to": "state", "first_on": "name", "unanswered": "ask, answer, many",
+                     "can_return": ""},
+        "same_states": "explorer"},
+    "station": {
+        "program_bytes": "code, size", "loader_text": "size", "station_text": "size, beats", "line_of": "sender, data, gaps",
+        "Station": {"": "circuit, machine, size, coming=()", "run": "line, most"}},
+    "desk": {"Desk": {"": "", "enter": "line", "beat": "rest", "run": "rest"}, "bits_of": "rows"},
 }
 
 
@@ -293,6 +311,37 @@ class KindsTest(unittest.TestCase):
         self.are(Wave, read_wave("\n"))
         self.are(Netlist, in_stages(Netlist(), 1))
         self.assertIsNone(check_size(1, 1, 1))
+
+    def test_programs_as_circuits_and_states(self):
+        program = parse_program("out in")
+        told = run_direct(Run(build(parse_plans(direct_text(program, 4)), "direct")), 4, [3], 9)
+        explorer = Explorer(self.netlist)
+        self.are(tuple, told, told[0], list(explorer.states)[0], explorer.states[(1, 0)])
+        self.are(bool, told[1], explorer.can_return())
+        self.are(list, input_tables(self.netlist), explorer.way_to((1, 0)), explorer.first_on("b"),
+                 explorer.unanswered("b", "none", 0))
+        self.are(dict, explorer.states, same_states(explorer), *input_tables(self.netlist), *explorer.first_on("b"))
+        self.are(int, Maker(program, 4).data, Maker(program, 4).add(None))
+        self.are(str, direct_text(program, 4), fast_text(Size(4, 4)))
+        self.assertIsNone(explorer.put((1, 0)))
+        self.assertIsNone(explorer.first_on("none"))
+
+    def test_the_station_and_the_desk(self):
+        size, desk = Size(4, 4), Desk()
+        plans = parse_plans(station_text(size, 1) + core_text(size) + sender_text(8, 1))
+        station = Station(Run(build(plans, "station")), Run(build(plans, "core")), size, [1, 2])
+        line = line_of(Run(build(plans, "sender")), (1, 0), [])
+        self.are(tuple, station.coming, program_bytes([], size), line)
+        self.are(list, station.codes, bits_of([("a", 1)]))
+        self.are(bool, station.spoilt, station.run(line, 5), station.spoilt)
+        self.are(int, station.words, *station.codes, *line)
+        self.are(Board, station.board)
+        self.are(str, loader_text(size), station_text(size, 1), desk.enter("x"), desk.enter("size 4 4"))
+        for one in ("program out 1", "core", "build core", "cells", "place 1"):
+            desk.enter(one)
+        self.are(tuple, desk.code)
+        self.are(Cells, desk.cells)
+        self.are(Layout, desk.layout)
 
     def test_what_is_given_is_not_held_where_it_is_changed(self):
         tiles, pads = [(0, 0)], {}

@@ -200,7 +200,7 @@ class WordsTest(unittest.TestCase):
             for node in ast.walk(tree):
                 if isinstance(node, ast.ExceptHandler):
                     for one in node.type.elts if isinstance(node.type, ast.Tuple) else [node.type]:
-                        self.assertIn(one.id, ("PlanError", "GateError", "PlaceError", "CodeError", "KeyError"), path)
+                        self.assertIn(one.id, ("ChipError", "PlanError", "GateError", "PlaceError", "CodeError", "KeyError"), path)
                 if isinstance(node, ast.Raise) and node.exc is not None:
                     self.assertRegex(node.exc.func.id, "^(Plan|Gate|Place|Bit|Code|Run)Error$")
 

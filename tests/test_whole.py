@@ -6,19 +6,25 @@ from chipstack.building import build
 from chipstack.chains import set_by_chain, with_chain
 from chipstack.compiling import compile_program, shortened
 from chipstack.core import Board, core_text
+from chipstack.direct import direct_text, run_direct
 from chipstack.equality import difference
 from chipstack.errors import CodeError
 from chipstack.fabric import cells_in, fabric_bytes, fabric_from
+from chipstack.fast import fast_text
 from chipstack.gates import Run
-from chipstack.isa import Machine, Size
+from chipstack.isa import Machine, Size, encoded
 from chipstack.plans import parse_plans
 from chipstack.programs import parse_program, program_text
 from chipstack.simplifying import simplified
+from chipstack.station import Station, line_of, program_bytes, station_text
 from chipstack.tables import CellRun, cells_of
 from chipstack.timing import TimedRun
+from chipstack.traffic import sender_text
+from tests.levels import found_run, netlist_of
 from tests.machine import Meaning, ProgramDrawing
 from tests.placed import Placed
 from tests.reckon import Reckoning
+from tests.reckoned import Reckoned
 
 PRIMES = """
 var n = 2
@@ -166,6 +172,52 @@ class WholeTest(unittest.TestCase):
             kept = tuple(run.state[place] for place in netlist.keeps())
             self.assertEqual(set_by_chain(found, ins, [0] * many), kept)
             self.assertEqual(set_by_chain(found, ins, kept), (0,) * many)
+
+    def test_a_program_as_a_circuit_of_its_own_and_over_a_line(self):
+        program, size, coming = parse_program(PRIMES), Size(5, 8), [1, 5]
+        sent = [2, 3, 5, 7, 11, 14]
+        direct = build(parse_plans(direct_text(program, 5)), "direct")
+        runs = [Run(direct), Run(simplified(direct)), found_run(simplified(direct), 4)]
+        self.assertEqual([run_direct(run, 5, coming, 20000) for run in runs], [(tuple(sent), True)] * 3)
+        code = shortened(compile_program(program, size))
+        line = line_of(found_run(netlist_of(sender_text(8, 3), "sender")), program_bytes(code, size), [2, 0, 7])
+        for text, name in ((core_text(size), "core"), (fast_text(size), "fast")):
+            station = Station(found_run(netlist_of(station_text(size, 3), "station")), found_run(netlist_of(text, name)), size,
+                              coming)
+            self.assertIs(station.run(line, 20000), True)
+            self.assertEqual((station.board.sent, station.board.codes, station.spoilt),
+                             (sent, [encoded(row, size) for row in code], False))
+
+    def test_drawn_programs_mean_the_same_wherever_they_run(self):
+        held = 0
+        for seed in range(40):
+            data = (3, 4, 8)[seed % 3]
+            drawing = ProgramDrawing(seed, 8)
+            drawing.data = data
+            program, coming, size = drawing.program(1), drawing.coming(), Size(data, 8)
+            meaning = Reckoned(program, data, coming).run()
+            netlist = netlist_of(direct_text(program, data), "direct")
+            self.assertEqual(run_direct(Run(netlist), data, coming, 20000), (tuple(meaning.sent), True))
+            try:
+                code = shortened(compile_program(program, size))
+                line = line_of(Run(netlist_of(sender_text(8, 2), "sender")), program_bytes(code, size), [seed % 5, 0])
+            except CodeError:
+                continue
+            station = Station(Run(netlist_of(station_text(size, 2), "station")), Run(netlist_of(fast_text(size), "fast")),
+                              size, coming)
+            self.assertIs(station.run(line, 20000), True)
+            self.assertEqual((station.board.sent, station.board.coming), (meaning.sent, meaning.coming))
+            held += 1
+        self.assertGreater(held, 10)
+
+    def test_a_direct_circuit_in_time_with_a_chain_and_in_the_same_words(self):
+        program = parse_program("var n = 3\nrows r 2\nwhile n\nr[1] = r[1] + in\nout r[1]\nn = n - 1\nend")
+        netlist = netlist_of(direct_text(program, 4), "direct")
+        placed = Placed(cells_of(netlist), seed=2)
+        timed = TimedRun(placed.cells, placed.timing(), placed.timing().longest)
+        for run in (timed, WithChain(Run(with_chain(netlist)))):
+            self.assertEqual(run_direct(run, 4, [5, 6, 7], 200), ((5, 11, 2), True))
+        self.assertIsNone(difference(build(parse_plans(direct_text(program, 4)), "direct"), netlist))
 
 
 if __name__ == "__main__":
