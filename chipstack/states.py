@@ -96,7 +96,7 @@ class Explorer:
         # Those of the first tables stand first: so states are found in the order of the tables.
         ranks = sorted([(tables & -tables, tables, other) for tables, other in groups])
         self.follows[state] = [(tables, other) for low, tables, other in ranks]
-        self.given_rows[state] = {name: tuple(answers[place] for place in self.netlist.outs[name])
+        self.given_rows[state] = {name: tuple(answers[one] for one in self.netlist.outs[name])
                                   for name in self.netlist.outs}
 
     def tables_with(self, state, name):

@@ -240,6 +240,11 @@ class StatesTest(unittest.TestCase):
         self.assertIsNone(explorer.put((1, 0, 1)))
         self.assertEqual((explorer.states, explorer.way_to((1, 0, 1))), (shown, [{"go": 1}] * 5))
 
+    def test_states_that_it_never_comes_to(self):
+        explorer = Explorer(plan("in a 1", "out y 1", "keep k 2 = 1", "k <- if a then 2:2 else k", "y = k[1]"))
+        for state in ((0, 0), (1, 1), (), (1,)):
+            self.assertRaises(GateError, explorer.way_to, state)
+
     def test_ways_are_not_held(self):
         explorer = Explorer(plan(*COUNTER))
         explorer.way_to((1, 1, 0))[0]["go"] = 7

@@ -173,7 +173,7 @@ class ReadingTest(unittest.TestCase):
         good = "a 2\nb 1\n\n#0 a=3 b=0\n#2 b=1\n#4 a=0\n"
         self.assertEqual(read_wave(good).rows, [(3, 0), (3, 0), (3, 1), (3, 1), (0, 1)])
         for one, other in (("b 1\n", "a 1\n"), ("b 1\n", "b 0\n"), ("b 1\n", "b 40\n"), ("b 1\n\n", "b 1\n"),
-                           ("a 2\nb 1\n\n", ""), ("a=0\n", "a=0"), ("#0 ", "#1 "), ("#0 ", "0 "), ("#0 ", "# "),
+                           ("a 2\nb 1\n\n", ""), ("a=0\n", "a=0"), ("#0 ", "#1 "), ("#0 ", "0 "), ("#0 ", "# "), ("#0 ", "x0 "), ("#0 ", "00 "), ("#2 ", "02 "),
                            ("#0 ", "#00 "), ("#0 a=3 b=0\n", ""), ("#0 a=3 b=0", "#0 a=3"), ("#0 a=3 b=0", "#0"),
                            ("#2 b", "#0 b"), ("#4 ", "#2 "), ("#4 ", "#1 "), ("#4 ", "#04 "), ("#4 ", "#100001 "),
                            ("#4 ", "4 "), ("#4 ", "#-4 "), ("#4 ", "#x "), ("#4 a=0", "#4 c=0"), ("#4 a=0", "#4 a=4"),
@@ -184,7 +184,7 @@ class ReadingTest(unittest.TestCase):
                            ("#2 b=1\n", "#2 b=1\n\n"), ("#2 b=1\n", "#2 b=2\n"), ("#2 b=1\n", "b=1\n")):
             self.assertEqual(good.count(one), 1, one)
             self.assertRaises(RunError, read_wave, good.replace(one, other))
-        for text in ("", "a 1", "a 1\n", "#0\n", "a 1\n#0 a=1\n"):
+        for text in ("", "a 1", "a 1\n", "#0\n", "a 1\n#0 a=1\n", "a 1\na 1\n\n", "a 1\na 1\n\n#0 a=1\n", "a 2\nb 1\na 1\n\n"):
             self.assertRaises(RunError, read_wave, text)
 
     def test_numbers(self):
