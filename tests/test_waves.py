@@ -153,6 +153,11 @@ class ReadingTest(unittest.TestCase):
         self.assertEqual(read_wave("a 1\n\n#0 a=1\n").rows, [(1,)])
         self.assertEqual(read_wave("a 32\nb0 1\n\n#0 a=4294967295 b0=0\n").rows, [(2 ** 32 - 1, 0)])
 
+    def test_lines_that_tell_more_than_what_changed(self):
+        wave = read_wave("a 2\nb 1\n\n#0 b=0 a=3\n#1\n#2 b=1 a=3\n#4 a=3\n")
+        self.assertEqual(wave.rows, [(3, 0), (3, 0), (3, 1), (3, 1), (3, 1)])
+        self.assertEqual(wave.wave_text(), "a 2\nb 1\n\n#0 a=3 b=0\n#2 b=1\n#4\n")
+
     def test_beats_up_to_the_last(self):
         rows = read_wave("a 1\n\n#0 a=1\n#100000\n").rows
         self.assertEqual((len(rows), rows[0], rows[-1]), (100001, (1,), (1,)))
